@@ -1,0 +1,1 @@
+"""Grammars seen through before any text is read."""
