@@ -30,3 +30,7 @@ def nonterminals_among(symbols):
 
 def ranges_among(symbols):
     return [(symbol[1], symbol[2]) for symbol in symbols if not is_nonterminal(symbol)]
+
+
+def others_beside(symbols, place):
+    return symbols[:place] + symbols[place + 1:]

@@ -1,20 +1,12 @@
 """Sets of nonterminals, as marks: marks[a] is True if the nonterminal a is in the set."""
 
 from grammarsight.grammar import START, is_nonterminal, nonterminals_among
+from grammarsight.settling import settled
 from grammarsight.steps import led_to
 
 
-# What a nonterminal covers follows in finitely many steps alone, so marks start out empty and only grow.
 def settled_marks(size, rules, symbols_suffice):
-    marks = [False] * size
-    changed = True
-    while changed:
-        changed = False
-        for rule in rules:
-            if not marks[rule.owner] and symbols_suffice(rule.symbols, marks):
-                marks[rule.owner] = True
-                changed = True
-    return marks
+    return settled(False, size, rules, lambda known, symbols, marks: known or symbols_suffice(symbols, marks))
 
 
 def all_hollow(symbols, hollow):
@@ -47,11 +39,15 @@ def growing_marks(grammar):
     return settled_marks(grammar.size, productive_rules(grammar), some_growing)
 
 
-def reachable_marks(grammar):
-    steps = [[] for a in range(grammar.size)]
-    for rule in productive_rules(grammar):
+def nonterminal_steps(size, rules):
+    steps = [[] for a in range(size)]
+    for rule in rules:
         steps[rule.owner].extend(nonterminals_among(rule.symbols))
-    reached = led_to(steps, START)
+    return steps
+
+
+def reachable_marks(grammar):
+    reached = led_to(nonterminal_steps(grammar.size, productive_rules(grammar)), START)
     return [a == START or a in reached for a in range(grammar.size)]
 
 
@@ -61,6 +57,15 @@ def useful_marks(grammar):
     return [productive[a] and reachable[a] for a in range(grammar.size)]
 
 
-def useful_rules(grammar):
+def useful_rule_numbers(grammar):
+    productive = productive_marks(grammar)
     useful = useful_marks(grammar)
-    return [rule for rule in productive_rules(grammar) if useful[rule.owner]]
+    numbers = []
+    for number, rule in enumerate(grammar.rules):
+        if useful[rule.owner] and all_productive(rule.symbols, productive):
+            numbers.append(number)
+    return numbers
+
+
+def useful_rules(grammar):
+    return [grammar.rules[number] for number in useful_rule_numbers(grammar)]

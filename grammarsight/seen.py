@@ -1,28 +1,41 @@
 """The calls on one object that holds a grammar, and their answers as numbers."""
 
 from grammarsight.edges import end_follows, first_ranges, follow_ranges
+from grammarsight.extents import longest_length, reads_any, reads_infinitely_many
+from grammarsight.filling import TooGreat, full_grammar
 from grammarsight.grammar import Grammar
-from grammarsight.marks import growing_marks, hollow_marks, productive_marks, reachable_marks, useful_marks
+from grammarsight.leasts import least_texts
+from grammarsight.marks import (
+    growing_marks,
+    hollow_marks,
+    productive_marks,
+    reachable_marks,
+    useful_marks,
+    useful_rule_numbers,
+)
 from grammarsight.ranges import told_ranges
 from grammarsight.reading import Reader
 from grammarsight.rows import NoGrammarRow, grammar_from_row, row_of_grammar
 from grammarsight.steps import led_to
+from grammarsight.trimming import staying_nonterminals, trimmed_grammar
 from grammarsight.turns import cyclic_marks, left_kinds, left_recursive_marks, left_steps
 
 DONE = 0
+NOT_PRODUCTIVE = 1
 NEGATIVE_NUMBER = -1
 NO_GRAMMAR_ROW = -2
 NO_SUCH_NONTERMINAL = -4
 NO_SUCH_CHOICE = -5
+TOO_GREAT = -6
+
+NO_TEXT = 0
+FINITELY_MANY = 1
+INFINITELY_MANY = 2
 
 LOAD = 0
 LAST_SET = 6
-LAST_TAKEN = 1
-
-
-# A call, or a part of one, that this program does not answer yet.
-class NotBuilt(NotImplementedError):
-    pass
+TAKE_TRIMMED = 0
+TAKE_FULL = 1
 
 
 class Holder:
@@ -94,16 +107,52 @@ def left_answer(holder, a):
 def least_answer(holder, a):
     if is_missing(holder, a):
         return [NO_SUCH_NONTERMINAL]
-    raise NotBuilt("least")
+    least = least_texts(holder.held)[a]
+    if least is None:
+        return [NOT_PRODUCTIVE]
+    return [DONE, least[0], len(least[1])] + list(least[1])
+
+
+def extent_answer(holder):
+    if not reads_any(holder.held):
+        return [DONE, NO_TEXT]
+    if reads_infinitely_many(holder.held):
+        return [DONE, INFINITELY_MANY]
+    return [DONE, FINITELY_MANY, longest_length(holder.held)]
+
+
+def trim_answer(holder):
+    nonterminals = staying_nonterminals(holder.held)
+    rules = useful_rule_numbers(holder.held)
+    row = row_of_grammar(trimmed_grammar(holder.held))
+    return [DONE] + row + [len(nonterminals)] + nonterminals + [len(rules)] + rules
+
+
+def full_answer(holder):
+    try:
+        grammar = full_grammar(holder.held)
+    except TooGreat:
+        return [TOO_GREAT]
+    return [DONE] + row_of_grammar(grammar)
 
 
 def take_answer(holder, k):
-    if k < 0 or k > LAST_TAKEN:
+    if k != TAKE_TRIMMED and k != TAKE_FULL:
         return [NO_SUCH_CHOICE]
-    raise NotBuilt("take")
+    try:
+        grammar = trimmed_grammar(holder.held) if k == TAKE_TRIMMED else full_grammar(holder.held)
+    except TooGreat:
+        return [TOO_GREAT]
+    holder.held = grammar
+    return [DONE]
 
 
-WITHOUT_NUMBER = {1: grammar_answer}
+WITHOUT_NUMBER = {
+    1: grammar_answer,
+    7: extent_answer,
+    8: trim_answer,
+    9: full_answer,
+}
 WITH_NUMBER = {
     2: set_answer,
     3: first_answer,
@@ -121,10 +170,8 @@ def next_answer(holder, reader):
     if number in WITHOUT_NUMBER:
         answer_of = WITHOUT_NUMBER[number]
         return answer_of(holder)
-    if number in WITH_NUMBER:
-        answer_of = WITH_NUMBER[number]
-        return answer_of(holder, reader.next_number())
-    raise NotBuilt(f"call {number}")
+    answer_of = WITH_NUMBER[number]
+    return answer_of(holder, reader.next_number())
 
 
 def answers(calls):

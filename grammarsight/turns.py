@@ -1,6 +1,6 @@
 """Where a grammar turns round upon itself: left recursion and cycles."""
 
-from grammarsight.grammar import is_nonterminal
+from grammarsight.grammar import is_nonterminal, others_beside
 from grammarsight.marks import all_hollow, hollow_marks, productive_rules
 from grammarsight.steps import led_to, returning_marks
 
@@ -62,8 +62,7 @@ def same_piece_steps(grammar):
     steps = [[] for a in range(grammar.size)]
     for rule in productive_rules(grammar):
         for place, symbol in enumerate(rule.symbols):
-            others = rule.symbols[:place] + rule.symbols[place + 1:]
-            if is_nonterminal(symbol) and all_hollow(others, hollow):
+            if is_nonterminal(symbol) and all_hollow(others_beside(rule.symbols, place), hollow):
                 steps[rule.owner].append(symbol[1])
     return steps
 

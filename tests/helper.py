@@ -1,5 +1,7 @@
 """Short ways to write grammars and calls, and a reading of the words that shares nothing with the program."""
 
+from itertools import product
+
 from grammarsight.seen import answers
 
 HUGE = 10 ** 18
@@ -50,6 +52,18 @@ def left(a):
 
 def least(a):
     return [6, a]
+
+
+def extent():
+    return [7]
+
+
+def trim():
+    return [8]
+
+
+def full():
+    return [9]
 
 
 def take(k):
@@ -210,6 +224,88 @@ class Reference:
                         if self.hollow_row(rest):
                             found[symbol] |= found[owner]
         return found[a]
+
+    def _row_lengths(self, symbols, lengths, most):
+        found = 1
+        for symbol in symbols:
+            one = lengths[symbol] if isinstance(symbol, int) else 2
+            longer = 0
+            for length in range(most + 1):
+                if one >> length & 1:
+                    longer |= found << length
+            found = longer & ((1 << (most + 1)) - 1)
+        return found
+
+    def lengths(self, most):
+        """For each nonterminal the lengths up to most of what it covers, as bits."""
+        lengths = [0] * self.size
+        before = None
+        while before != lengths:
+            before = list(lengths)
+            for owner, symbols in self.rules:
+                lengths[owner] |= self._row_lengths(symbols, lengths, most)
+        return lengths
+
+    def bounds(self):
+        """The longest text of a grammar that reads finitely many is no longer than the first number.
+
+        One that reads infinitely many reads one that is longer than the first and not than the second: of a longer
+        one a part can be taken out that is no longer than their difference.
+        """
+        width = max([2] + [len(symbols) for _, symbols in self.rules])
+        return (width ** self.size, width ** self.size + width ** (self.size + 1))
+
+    def extent(self):
+        lower, upper = self.bounds()
+        lengths = self.lengths(upper)[0]
+        if not lengths:
+            return [0]
+        longest = lengths.bit_length() - 1
+        return [2] if longest > lower else [1, longest]
+
+    def _row_texts(self, symbols, texts, most):
+        found = {0: ()}
+        for symbol in symbols:
+            one = texts[symbol] if isinstance(symbol, int) else {1: (min(self._symbol_begins(symbol)),)}
+            longer = {}
+            for head in found.values():
+                for tail in one.values():
+                    text = head + tail
+                    if len(text) <= most:
+                        longer[len(text)] = min(text, longer.get(len(text), text))
+            found = longer
+        return found
+
+    def texts(self, most):
+        """For each nonterminal and each length up to most: of what it covers of that length the least."""
+        texts = [{} for _ in range(self.size)]
+        before = None
+        while before != texts:
+            before = [dict(t) for t in texts]
+            for owner, symbols in self.rules:
+                for length, text in self._row_texts(symbols, texts, most).items():
+                    texts[owner][length] = min(text, texts[owner].get(length, text))
+        return texts
+
+    def trimmed(self):
+        """The new size and rules, the old numbers of the nonterminals, and those of the rules."""
+        useful = self.useful()
+        stay = sorted(useful | {0})
+        kept = [n for n, rule in enumerate(self.rules) if rule in self.good_rules and rule[0] in useful]
+        rules = []
+        for owner, symbols in [self.rules[n] for n in kept]:
+            renamed = [stay.index(s) if isinstance(s, int) else s for s in symbols]
+            rules.append((stay.index(owner), *renamed))
+        return (len(stay), rules, stay, kept)
+
+    def full(self):
+        """The rules, or None if the full grammar is too great."""
+        ways = []
+        for owner, symbols in self.rules:
+            choices = [((s,), ()) if isinstance(s, int) and s in self.hollow() else ((s,),) for s in symbols]
+            ways += [(owner, *sum(choice, ())) for choice in product(*choices)]
+        rules = list(dict.fromkeys(way for way in ways if len(way) > 1))
+        return None if len(ways) > 256 or len(rules) > 60 else rules
 
 
 def told_bytes(members):

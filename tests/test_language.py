@@ -112,8 +112,12 @@ class Language(unittest.TestCase):
             if isinstance(node, ast.Constant):
                 self.assertIsInstance(node.value, (int, str, type(None)))
                 self.assertNotIn("%", str(node.value))
-            if isinstance(node, (ast.Div, ast.Pow, ast.MatMult, ast.Is, ast.IsNot)):
+            if isinstance(node, (ast.Div, ast.Pow, ast.MatMult)):
                 self.fail((name, ast.dump(node)))
+            if isinstance(node, ast.Compare) and any(isinstance(op, (ast.Is, ast.IsNot)) for op in node.ops):
+                self.assertEqual(len(node.ops), 1, (name, ast.dump(node)))
+                self.assertIsInstance(node.comparators[0], ast.Constant, (name, ast.dump(node)))
+                self.assertIn(node.comparators[0].value, (None, True, False), (name, ast.dump(node)))
             if isinstance(node, ast.ExceptHandler):
                 self.assertIsNotNone(node.type)
 
